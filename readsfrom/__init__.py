@@ -1,0 +1,1 @@
+"""Programs of few hands over shared boxes, told by who reads whom."""
