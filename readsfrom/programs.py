@@ -1,9 +1,8 @@
 """Programs: what is one, looked at part by part."""
 
 from readsfrom.errors import NoProgram
+from readsfrom.forms import has_parts, is_list, is_name, is_worded
 
-LETTERS = "abcdefghijklmnopqrstuvwxyz"
-NAME_LETTERS = 6
 MOST_BOXES = 4
 MOST_HANDS = 4
 HAND_DEEDS = 8
@@ -35,51 +34,12 @@ def look_at(thing):
 
 def is_deed(boxes, thing):
     """Tell whether the thing is a deed over these boxes."""
-    if not isinstance(thing, tuple) or len(thing) == 0 or not isinstance(thing[0], str):
-        return False
-    kinds = DEEDS.get(thing[0])
-    if kinds is None or len(thing) != 1 + len(kinds):
-        return False
-    return all([_is_of(boxes, kind, part) for kind, part in zip(kinds, thing[1:])])
+    return is_worded(thing) and has_parts(boxes, DEEDS.get(thing[0]), thing)
 
 
 def are_boxes(thing):
     """Tell whether the thing can stand as a program's boxes."""
-    return _is_list(thing, 1, MOST_BOXES) and _wrong_box(thing) is None
-
-
-def is_name(thing):
-    if not isinstance(thing, str) or not 1 <= len(thing) <= NAME_LETTERS:
-        return False
-    return all([sign in LETTERS for sign in thing])
-
-
-def is_whole(thing):
-    """Tell whether the thing is a whole number: True and False are ints, but none of these."""
-    return isinstance(thing, int) and not isinstance(thing, bool)
-
-
-def _is_from_to(thing, least, most):
-    return is_whole(thing) and least <= thing <= most
-
-
-def _is_list(thing, least, most):
-    return isinstance(thing, list) and least <= len(thing) <= most
-
-
-def _is_of(boxes, kind, part):
-    # The kind of a part comes ahead of comparing: any thing may stand here, and be "equal" to a word.
-    if isinstance(kind, tuple):
-        return isinstance(part, str) and part in kind
-    if kind == "name":
-        return is_name(part)
-    if kind == "box":
-        return isinstance(part, str) and part in boxes
-    if kind == "number":
-        return _is_from_to(part, 0, 9)
-    if kind == "many":
-        return _is_from_to(part, 1, 8)
-    return is_name(part) or _is_from_to(part, 0, 9)
+    return is_list(thing, 1, MOST_BOXES) and _wrong_box(thing) is None
 
 
 def _wrong_box(boxes):
@@ -94,7 +54,7 @@ def _wrong_box(boxes):
 
 
 def _look_at_boxes(boxes):
-    if not _is_list(boxes, 1, MOST_BOXES):
+    if not is_list(boxes, 1, MOST_BOXES):
         raise NoProgram("boxes", None, None)
     number = _wrong_box(boxes)
     if number is not None:
@@ -102,10 +62,10 @@ def _look_at_boxes(boxes):
 
 
 def _look_at_hands(hands):
-    if not _is_list(hands, 1, MOST_HANDS):
+    if not is_list(hands, 1, MOST_HANDS):
         raise NoProgram("hands", None, None)
     for number, hand in enumerate(hands):
-        if not _is_list(hand, 0, HAND_DEEDS):
+        if not is_list(hand, 0, HAND_DEEDS):
             raise NoProgram("hands", number, None)
 
 

@@ -1,5 +1,7 @@
 """Things that several tests hand in."""
 
+from readsfrom.errors import NoProgram
+
 
 class Same:
     """Says of itself that it is equal to whatever it is compared with."""
@@ -129,3 +131,42 @@ fence taking
 skip r is 1 8
 hand
 claim r isnt 0"""
+
+# Things that are no programs, and of each the values of its refusal.
+NO_PROGRAMS = [
+    *[(thing, ("program", None, None)) for thing in STRANGE],
+    ([["x"], [[]]], ("program", None, None)),
+    ((["x"],), ("program", None, None)),
+    ("boxes x\nhand", ("program", None, None)),
+    ((["x"], [[]], []), ("program", None, None)),
+    (((), []), ("boxes", None, None)),
+    ((["y", "x"], [[None]]), ("boxes", None, 1)),
+    ((["x"], ()), ("hands", None, None)),
+    ((["x"], [[], ()]), ("hands", 1, None)),
+    ((["x"], [[], [("fence", "both"), ("write", "x", True, "plain")]]), ("deeds", 1, 1)),
+    ((["x"], hands_of(8, 8, 1)), ("deeds", None, None)),
+]
+
+
+def refuses_programs(test, call):
+    """Check that what is called with a program refuses what is none."""
+    for thing, values in NO_PROGRAMS:
+        with test.assertRaises(NoProgram) as caught:
+            call(thing)
+        told = caught.exception
+        test.assertEqual((told.part, told.hand, told.number), values)
+
+# A program that passes numbers on, and the lines and rows of one of its graphs.
+PASSED = """boxes x y
+hand
+read r x loose
+write y r giving
+hand
+read s y taking
+fence both
+change s x add 3 both"""
+PASSED_LINES = [
+    [("read", "x", "loose", 3, (1, 2)), ("write", "y", "giving", 3)],
+    [("read", "y", "taking", 0, None), ("fence", "both"), ("change", "x", "both", 0, 3, None)],
+]
+PASSED_ROWS = [[(1, 2)], [(0, 1)]]

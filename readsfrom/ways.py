@@ -1,0 +1,103 @@
+"""The ways of hands through their deeds.
+
+A way is a tuple (at, registers): the number of the deed at which the hand stands, and its registers, a dict. It is
+never changed. No way stands at a skip, and only a hand that failed stands at a claim.
+"""
+
+READING = ("read", "change", "swap", "wait", "grab")
+
+
+def begun(deeds):
+    """Tell the way of a hand that did no deed yet."""
+    registers = {name: 0 for deed in deeds for name in _names_in(deed)}
+    return (_settled(deeds, 0, registers), registers)
+
+
+def gone_on(deeds, way, number):
+    """Tell the way behind the next deed; the number is what this reads, None where it reads nothing."""
+    at, registers = way
+    if number is not None:
+        registers = {**registers, deeds[at][1]: number}
+    return (_settled(deeds, at + 1, registers), registers)
+
+
+def next_deed(deeds, way):
+    """Tell the deed that makes the hand's next note, None where it makes no more."""
+    at, _ = way
+    if at == len(deeds) or deeds[at][0] == "claim":
+        return None
+    return deeds[at]
+
+
+def state_on(deeds, way):
+    """Tell the hand's state: its word, the number of the deed at which it stands, its registers."""
+    at, registers = way
+    told = [(name, registers[name]) for name in sorted(registers)]
+    if at == len(deeds):
+        return ("through", at, told)
+    return ("failed" if deeds[at][0] == "claim" else "going", at, told)
+
+
+def is_reading(deed):
+    return deed[0] in READING
+
+
+def box_in(deed):
+    """Tell the box of a deed that reads or writes."""
+    return deed[1] if deed[0] == "write" else deed[2]
+
+
+def can_read(deed, number):
+    """Tell whether the deed, one that reads, can read this number."""
+    return deed[0] not in ("wait", "grab") or number == deed[3]
+
+
+def is_changing(deed, number):
+    """Tell whether the deed, where it reads this number, writes at once."""
+    return deed[0] == "change" or (deed[0] in ("swap", "grab") and number == deed[3])
+
+
+def note_of(deed, registers, number, source):
+    """Tell the note that the deed makes, reading this number of this source (None and None where it reads nothing)."""
+    mode = deed[-1]
+    if deed[0] == "fence":
+        return ("fence", mode)
+    box = box_in(deed)
+    if deed[0] == "write":
+        return ("write", box, mode, _worth(deed[2], registers))
+    if is_changing(deed, number):
+        return ("change", box, mode, number, _changed(deed, registers, number), source)
+    if deed[0] == "swap":
+        mode = "taking" if mode in ("taking", "both") else "loose"
+    return ("read", box, mode, number, source)
+
+
+def _names_in(deed):
+    """Tell the registers that the deed names, its own and that which stands for a number."""
+    own = [] if deed[0] in ("write", "fence") else [deed[1]]
+    if deed[0] in ("write", "change", "swap", "grab") and isinstance(deed[-2], str):
+        own.append(deed[-2])
+    return own
+
+
+def _settled(deeds, at, registers):
+    """Tell at which deed the hand stands once skips and claims from this one on are done."""
+    while at < len(deeds) and deeds[at][0] in ("skip", "claim"):
+        has_it = registers[deeds[at][1]] == deeds[at][3]
+        holds = has_it == (deeds[at][2] == "is")
+        if deeds[at][0] == "claim" and not holds:
+            return at
+        at += 1 + (deeds[at][4] if deeds[at][0] == "skip" and holds else 0)
+    return min(at, len(deeds))
+
+
+def _worth(what, registers):
+    return registers[what] if isinstance(what, str) else what
+
+
+def _changed(deed, registers, number):
+    """Tell what a deed that reads this number and writes at once writes."""
+    worth = _worth(deed[-2], registers)
+    if deed[0] == "change" and deed[3] == "add":
+        return (number + worth) % 10
+    return worth
