@@ -1,0 +1,76 @@
+"""Runs and graphs, told of each other."""
+
+from readsfrom.errors import NoGraph, NoHand, NoRun
+from readsfrom.forms import is_list, is_whole
+from readsfrom.machine import Machine
+from readsfrom.notes import box_of, does_read, note_at, source_of
+from readsfrom.programs import look_at
+from readsfrom.replaying import is_drawing
+from readsfrom.rules import breach
+
+
+def is_run(program, thing):
+    """Tell whether the thing is a run of the program."""
+    machine = Machine(program)
+    try:
+        machine.play(thing)
+    except NoRun:
+        return False
+    return True
+
+
+def graph_of(program, run):
+    """Tell the graph of a run; refuse what is none."""
+    machine = Machine(program)
+    machine.play(run)
+    return machine.graph()
+
+
+def run_of(program, graph, *, by=None):
+    """Tell of a graph its plain run, or the run by an order of the hands; refuse what is no graph, or no order."""
+    look_at(program)
+    if not is_drawing(program, graph):
+        raise NoGraph(None)
+    rule = breach(program, graph)
+    if rule is not None:
+        raise NoGraph(rule)
+    boxes, hands = program
+    order = list(range(len(hands))) if by is None else by
+    if not _is_order(order, len(hands)):
+        raise NoHand(None)
+    rows = {box: row for box, row in zip(boxes, graph.rows())}
+    return _run_by(graph.lines(), rows, order)
+
+
+def _is_order(thing, many):
+    """Tell whether the thing is a list of so many hands' numbers, each once."""
+    return is_list(thing, many, many) and all([is_whole(hand) for hand in thing]) and sorted(thing) == list(range(many))
+
+
+def _run_by(lines, rows, order):
+    """Tell the run that takes always the first hand of the order that can be next."""
+    many = sum([len(line) for line in lines])
+    done = {None: True}
+    run = []
+    ats = [0 for _ in lines]
+    while len(run) < many:
+        hand = _next_hand(lines, order, ats, done)
+        call = (hand, ats[hand])
+        run.append((hand, _place(lines, rows, done, call)))
+        done[call] = True
+        ats[hand] += 1
+    return run
+
+
+def _next_hand(lines, order, ats, done):
+    """Tell the first hand of the order the next note of which has its source among those done."""
+    return [hand for hand in order if ats[hand] < len(lines[hand]) and source_of(lines[hand][ats[hand]]) in done][0]
+
+
+def _place(lines, rows, done, call):
+    """Tell the place at which the note is done behind those done: of reading where it reads."""
+    note = note_at(lines, call)
+    if note[0] == "fence":
+        return None
+    row = [one for one in [None, *rows[note[1]]] if one in done or one == call]
+    return row.index(source_of(note) if does_read(note) else call)
