@@ -154,8 +154,8 @@ class Machine:
         return can_read(deed, number) and not is_barred
 
     def _is_change(self, row, place):
-        """Tell whether what stands at this place of the row, where something does, is a change's."""
-        return 0 < place < len(row) and note_at(self._lines, row[place])[0] == "change"
+        """Tell whether at this place of the row, behind the first, something stands that a change wrote."""
+        return place < len(row) and note_at(self._lines, row[place])[0] == "change"
 
     def _do(self, hand, where):
         """Do a step that can be done."""

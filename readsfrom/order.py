@@ -1,6 +1,6 @@
 """Which notes of a drawing are before which."""
 
-from readsfrom.notes import GIVING, TAKING, calls_in, does_read, mode_of, note_at, source_of
+from readsfrom.notes import GIVING, TAKING, calls_in, mode_of, note_at, source_of
 from readsfrom.programs import look_at
 
 
@@ -40,14 +40,13 @@ def _meetings(lines):
     """Tell the steps from writers, or the fences ahead of them, to their readers, or the fences behind these."""
     steps = []
     for reader in calls_in(lines):
-        ends = _ends(lines, reader)
         for writer in _writers_of(lines, reader):
-            steps.extend([(begin, end) for begin in _begins(lines, writer) for end in ends])
+            steps.extend([(begin, end) for begin in _begins(lines, writer) for end in _ends(lines, reader)])
     return steps
 
 
 def _writers_of(lines, reader):
-    """Tell the source of the note; where that is a change its source, too, and so on."""
+    """Tell the source of the note, where that is a change its source, too, and so on: none of a note without one."""
     found = []
     source = source_of(note_at(lines, reader))
     # In a drawing with a ring changes may be each other's sources.
@@ -68,7 +67,5 @@ def _ends(lines, reader):
     """Tell where meetings of what this note reads end: at itself, and at fences behind it."""
     hand, number = reader
     line = lines[hand]
-    if not does_read(line[number]):
-        return []
     fences = [at for at in range(number + 1, len(line)) if line[at][0] == "fence"]
     return [(hand, at) for at in [number, *fences] if mode_of(line[at]) in TAKING]

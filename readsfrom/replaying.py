@@ -59,7 +59,7 @@ def _is_done(deeds, line):
 def _makes(deed, way, note):
     """Tell whether the deed, next on this way, makes the note."""
     number = number_read(note)
-    if is_reading(deed) != does_read(note) or (is_reading(deed) and not can_read(deed, number)):
+    if is_reading(deed) != does_read(note) or not can_read(deed, number):
         return False
     _, registers = way
     return note == note_of(deed, registers, number, source_of(note))

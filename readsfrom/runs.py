@@ -3,8 +3,7 @@
 from readsfrom.errors import NoGraph, NoHand, NoRun
 from readsfrom.forms import is_list, is_whole
 from readsfrom.machine import Machine
-from readsfrom.notes import box_of, does_read, note_at, source_of
-from readsfrom.programs import look_at
+from readsfrom.notes import does_read, note_at, source_of
 from readsfrom.replaying import is_drawing
 from readsfrom.rules import breach
 
@@ -28,7 +27,6 @@ def graph_of(program, run):
 
 def run_of(program, graph, *, by=None):
     """Tell of a graph its plain run, or the run by an order of the hands; refuse what is no graph, or no order."""
-    look_at(program)
     if not is_drawing(program, graph):
         raise NoGraph(None)
     rule = breach(program, graph)

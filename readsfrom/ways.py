@@ -48,7 +48,7 @@ def box_in(deed):
 
 
 def can_read(deed, number):
-    """Tell whether the deed, one that reads, can read this number."""
+    """Tell whether the deed does not wait for another number than this."""
     return deed[0] not in ("wait", "grab") or number == deed[3]
 
 

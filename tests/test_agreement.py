@@ -20,6 +20,8 @@ MORE = [
     "read s x plain",
     "boxes x y\nhand\nfence both\nwrite x 1 loose\nhand\nread r x loose\nskip r is 0 2\nfence taking\n"
     "write y 1 giving\nhand\nwait r y 1 taking\nread s x plain",
+    "boxes x y\nhand\nwrite x 1 plain\nwrite y 1 giving\nwrite y 2 plain\nhand\nread r y taking\nread r x plain",
+    "boxes x y\nhand\nwrite x 1 plain\nwrite y 1 giving\nhand\nread r y loose\nread r y taking\nread s x plain",
     "boxes x y\nhand\nwrite x 1 giving\nhand\nwrite y 1 giving\nhand\nread r x taking\nread s y taking\nhand\n"
     "read r y taking\nread s x taking",
     "boxes x\nhand\nwrite x 1 plain\nwrite x 2 plain\nhand\nwrite x 3 plain\nread r x plain\nhand\n"

@@ -82,8 +82,8 @@ class MachineTest(MachineCase):
                 self.refuse(machine, hand, where=where)
         # True and False are no hands.
         machine = self.done("boxes x\nhand\nfence both\nhand\nfence both")
-        self.refuse(machine, False)
-        self.refuse(machine, True)
+        for hand in [False, True, -1, -2, 2]:
+            self.refuse(machine, hand)
         machine = self.done("boxes x\nhand\nread r x plain")
         self.refuse(machine, 0, where=False)
         self.refuse(machine, 0, where=0.0)

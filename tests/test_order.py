@@ -77,6 +77,16 @@ class BeforeTest(unittest.TestCase):
         lines = [[("write", "x", "giving", 1), ("fence", "both")], [("fence", "both"), ("read", "x", "taking", 1, A)]]
         self.assertEqual(self.told(text, lines, [[A]]), [(A, B), (A, E), (D, E)])
 
+    def test_no_note_but_a_fence_stands_for_another_one(self):
+        text = "boxes x y\nhand\nwrite y 1 giving\nchange r y add 1 both\nwrite x 1 plain\nhand\nread r x taking"
+        line = [("write", "y", "giving", 1), ("change", "y", "both", 1, 2, A), ("write", "x", "plain", 1)]
+        pairs = self.told(text, [line, [("read", "x", "taking", 1, C)]], [[C], [A, B]])
+        self.assertEqual(pairs, [(A, B), (A, C), (B, C)])
+        text = "boxes x y\nhand\nwrite x 1 giving\nhand\nread r x plain\nread r y taking\nchange r y add 1 both"
+        line = [("read", "x", "plain", 1, A), ("read", "y", "taking", 0, None), ("change", "y", "both", 0, 1, None)]
+        pairs = self.told(text, [[("write", "x", "giving", 1)], line], [[A], [F]])
+        self.assertEqual(pairs, [(D, E), (D, F), (E, F)])
+
     def test_only_its_own_source_meets(self):
         text = "boxes x\nhand\nwrite x 1 giving\nwrite x 1 giving\nhand\nread r x taking\nread r x taking"
         one, two, start = ("read", "x", "taking", 1, A), ("read", "x", "taking", 1, B), ("read", "x", "taking", 0, None)

@@ -211,15 +211,16 @@ class DrawingTest(unittest.TestCase):
 
     def test_sources(self):
         program = read("boxes x y\nhand\nread r x loose\nhand\nwrite x 1 plain\nwrite x 2 plain\nwrite y 1 plain"
-                       "\nfence both\nchange r x put 1 both\nread r x plain")
+                       "\nfence both\nchange r x put 1 both\nread r x plain\nwrite x 4 plain")
         line = [("write", "x", "plain", 1), ("write", "x", "plain", 2), ("write", "y", "plain", 1), ("fence", "both"),
-                ("change", "x", "both", 2, 1, (1, 1)), ("read", "x", "plain", 1, (1, 0))]
-        rows = [[(1, 0), (1, 1), (1, 4)], [(1, 2)]]
+                ("change", "x", "both", 2, 1, (1, 1)), ("read", "x", "plain", 1, (1, 0)), ("write", "x", "plain", 4)]
+        rows = [[(1, 0), (1, 1), (1, 4), (1, 6)], [(1, 2)]]
         for number, source, is_one in [
             (0, None, True), (1, None, False), (1, (1, 0), True), (2, (1, 1), True), (1, (1, 1), False),
             (2, (1, 0), False), (0, (1, 0), False), (1, (1, 2), False), (1, (1, 3), False), (1, (1, 4), True),
-            (2, (1, 4), False), (1, (1, 5), False), (1, (1, 6), False), (1, (0, 0), False), (1, (0, 1), False),
-            (1, (2, 0), False), (1, (-1, 0), False), (1, (1, -2), False), (1, (1, -6), False),
+            (2, (1, 4), False), (1, (1, 5), False), (1, (1, 7), False), (1, (0, 0), False), (1, (0, 1), False),
+            (1, (2, 0), False), (1, (-1, 0), False), (1, (1, -2), False), (1, (1, -6), False), (1, (1, -1), False),
+            (4, (1, 6), True), (4, (1, -1), False), (4, (-1, 6), False), (4, (-1, -1), False), (4, (1, 7), False),
             (1, (10 ** 59, 0), False), (1, (1, 10 ** 59), False), (1, (-10 ** 59, 0), False), (1, "10", False),
         ]:
             graph = Graph([[("read", "x", "loose", number, source)], line], rows)

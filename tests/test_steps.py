@@ -42,6 +42,20 @@ class StepsTest(MachineCase):
             machine = self.done(text.format(mode), (0, 1), (0, 1), (1, 1), (1, None), (1, 1), (2, 1))
             self.assertEqual(machine.steps(), [(2, place) for place in places])
 
+    def test_no_read_takes_and_no_write_gives_as_a_fence_does(self):
+        text = ("boxes x y z\nhand\nwrite x 1 plain\nwrite y 1 giving\nwrite z 1 {}\nhand\nread r {}\nread r {}\n"
+                "read s x plain")
+        for mode, one, two, places in [
+            ("plain", "y loose", "z taking", (1, 1)), ("plain", "y loose", "z taking", (1, 0)),
+            ("plain", "z taking", "y loose", (1, 1)), ("loose", "z taking", "z taking", (0, 1)),
+        ]:
+            machine = self.done(text.format(mode, one, two), (0, 1), (0, 1), (0, 1), (1, places[0]), (1, places[1]))
+            self.assertEqual(machine.steps(), [(1, 0), (1, 1)])
+        for word in ["change r z put 1", "swap r z 0 1", "grab r z 0 1"]:
+            changed = text.replace("write z 1", word).format("taking", "z taking", "z taking")
+            machine = self.done(changed, (0, 1), (0, 1), (0, 0), (1, 1), (1, 1))
+            self.assertEqual(machine.steps(), [(1, 0), (1, 1)])
+
     def test_a_giving_fence_gives_what_was_seen_ahead_of_it_alone(self):
         text = ("boxes x y\nhand\nfence giving\nwrite x 1 plain\nwrite y 1 loose\nhand\nread r y taking\n"
                 "read s x plain")
