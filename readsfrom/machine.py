@@ -13,7 +13,9 @@ from readsfrom.notes import (
 )
 from readsfrom.programs import look_at
 from readsfrom.views import joined, moved
-from readsfrom.ways import begun, box_in, can_read, gone_on, is_changing, is_reading, next_deed, note_of, state_on
+from readsfrom.ways import (
+    begun, box_in, can_read, gone_on, is_changing, is_reading, is_waiting, next_deed, note_of, state_on,
+)
 
 
 class Machine:
@@ -92,7 +94,10 @@ class Machine:
 
     def is_over(self):
         """Tell whether no step can be done."""
-        return len(self.steps()) == 0
+        for hand, _ in enumerate(self._hands):
+            if self._can_go(hand):
+                return False
+        return True
 
     def twin(self):
         """Tell a machine with the same run and an empty log, that goes on by itself."""
@@ -133,9 +138,18 @@ class Machine:
             return False
         return where in self._places(hand)
 
+    def _next_deed(self, hand):
+        return next_deed(self._hands[hand], self._ways[hand])
+
+    def _can_go(self, hand):
+        """Tell whether some step of the hand can be done."""
+        deed = self._next_deed(hand)
+        # What does not wait can be done at the last place of its row at least.
+        return deed is not None and (not is_waiting(deed) or len(self._places(hand)) > 0)
+
     def _places(self, hand):
         """Tell, rising, the places at which the hand's next deed can be done; None of a fence."""
-        deed = next_deed(self._hands[hand], self._ways[hand])
+        deed = self._next_deed(hand)
         if deed is None:
             return []
         if deed[0] == "fence":
@@ -173,7 +187,7 @@ class Machine:
 
     def _next_note(self, hand, where):
         """Tell the note that the hand's next deed makes at this place."""
-        deed = next_deed(self._hands[hand], self._ways[hand])
+        deed = self._next_deed(hand)
         _, registers = self._ways[hand]
         if not is_reading(deed):
             return note_of(deed, registers, None, None)

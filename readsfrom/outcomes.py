@@ -26,11 +26,19 @@ def is_full(program, graph):
 def outcome_of(program, graph):
     """Tell the words, the registers and the last numbers of an ended graph."""
     states = _states(program, graph)
-    words = ["stuck" if word == "going" else word for word, _, _ in states]
-    registers = [told for _, _, told in states]
+    return outcome_by(states, last_numbers(graph))
+
+
+def last_numbers(graph):
+    """Tell for each box the last number of its row, 0 of none."""
     lines = graph.lines()
-    numbers = [number_written(note_at(lines, row[-1])) if len(row) > 0 else 0 for row in graph.rows()]
-    return (words, registers, numbers)
+    return [number_written(note_at(lines, row[-1])) if len(row) > 0 else 0 for row in graph.rows()]
+
+
+def outcome_by(states, numbers):
+    """Tell the outcome where nothing can go on, by the states of the hands and the last numbers of the boxes."""
+    words = ["stuck" if word == "going" else word for word, _, _ in states]
+    return (words, [told for _, _, told in states], numbers)
 
 
 def _states(program, graph):

@@ -1,5 +1,6 @@
 """The three rules that no graph of a program breaks."""
 
+from readsfrom.errors import NoGraph
 from readsfrom.notes import box_of, calls_in, does_read, does_write, note_at, source_of
 from readsfrom.order import before, led_pairs, line_steps
 from readsfrom.programs import look_at
@@ -23,6 +24,15 @@ def breach(program, graph):
 def is_graph(program, thing):
     """Tell whether the thing is a graph of the program: a drawing that breaks no rule."""
     return is_drawing(program, thing) and breach(program, thing) is None
+
+
+def look_at_graph(program, thing):
+    """Tell None of a graph of the program; refuse all else, by the first rule that a drawing breaks."""
+    if not is_drawing(program, thing):
+        raise NoGraph(None)
+    rule = breach(program, thing)
+    if rule is not None:
+        raise NoGraph(rule)
 
 
 def _has_ring(lines):

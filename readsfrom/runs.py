@@ -1,11 +1,10 @@
 """Runs and graphs, told of each other."""
 
-from readsfrom.errors import NoGraph, NoHand, NoRun
+from readsfrom.errors import NoHand, NoRun
 from readsfrom.forms import is_list, is_whole
 from readsfrom.machine import Machine
 from readsfrom.notes import does_read, note_at, source_of
-from readsfrom.replaying import is_drawing
-from readsfrom.rules import breach
+from readsfrom.rules import look_at_graph
 
 
 def is_run(program, thing):
@@ -27,26 +26,18 @@ def graph_of(program, run):
 
 def run_of(program, graph, *, by=None):
     """Tell of a graph its plain run, or the run by an order of the hands; refuse what is no graph, or no order."""
-    if not is_drawing(program, graph):
-        raise NoGraph(None)
-    rule = breach(program, graph)
-    if rule is not None:
-        raise NoGraph(rule)
+    look_at_graph(program, graph)
     boxes, hands = program
     order = list(range(len(hands))) if by is None else by
     if not _is_order(order, len(hands)):
         raise NoHand(None)
-    rows = {box: row for box, row in zip(boxes, graph.rows())}
-    return _run_by(graph.lines(), rows, order)
+    return run_by(boxes, graph, order)
 
 
-def _is_order(thing, many):
-    """Tell whether the thing is a list of so many hands' numbers, each once."""
-    return is_list(thing, many, many) and all([is_whole(hand) for hand in thing]) and sorted(thing) == list(range(many))
-
-
-def _run_by(lines, rows, order):
+def run_by(boxes, graph, order):
     """Tell the run that takes always the first hand of the order that can be next."""
+    lines = graph.lines()
+    rows = {box: row for box, row in zip(boxes, graph.rows())}
     many = sum([len(line) for line in lines])
     done = {None: True}
     run = []
@@ -58,6 +49,11 @@ def _run_by(lines, rows, order):
         done[call] = True
         ats[hand] += 1
     return run
+
+
+def _is_order(thing, many):
+    """Tell whether the thing is a list of so many hands' numbers, each once."""
+    return is_list(thing, many, many) and all([is_whole(hand) for hand in thing]) and sorted(thing) == list(range(many))
 
 
 def _next_hand(lines, order, ats, done):

@@ -47,9 +47,14 @@ def box_in(deed):
     return deed[1] if deed[0] == "write" else deed[2]
 
 
+def is_waiting(deed):
+    """Tell whether the deed reads just one number."""
+    return deed[0] == "wait" or deed[0] == "grab"
+
+
 def can_read(deed, number):
     """Tell whether the deed does not wait for another number than this."""
-    return deed[0] not in ("wait", "grab") or number == deed[3]
+    return not is_waiting(deed) or number == deed[3]
 
 
 def is_changing(deed, number):
