@@ -28,6 +28,11 @@ def is_pair(thing):
     return isinstance(thing, tuple) and len(thing) == 2 and is_whole(thing[0]) and is_whole(thing[1])
 
 
+def is_order(thing, many):
+    """Tell whether the thing is a list of the numbers of so many hands, each once."""
+    return is_list(thing, many, many) and all([is_whole(hand) for hand in thing]) and sorted(thing) == list(range(many))
+
+
 def is_worded(thing):
     """Tell whether the thing is a tuple with a text ahead."""
     return isinstance(thing, tuple) and len(thing) > 0 and isinstance(thing[0], str)

@@ -1,7 +1,7 @@
 """Runs and graphs, told of each other."""
 
 from readsfrom.errors import NoHand, NoRun
-from readsfrom.forms import is_list, is_whole
+from readsfrom.forms import is_order
 from readsfrom.machine import Machine
 from readsfrom.notes import does_read, note_at, source_of
 from readsfrom.rules import look_at_graph
@@ -29,7 +29,7 @@ def run_of(program, graph, *, by=None):
     look_at_graph(program, graph)
     boxes, hands = program
     order = list(range(len(hands))) if by is None else by
-    if not _is_order(order, len(hands)):
+    if not is_order(order, len(hands)):
         raise NoHand(None)
     return run_by(boxes, graph, order)
 
@@ -49,11 +49,6 @@ def run_by(boxes, graph, order):
         done[call] = True
         ats[hand] += 1
     return run
-
-
-def _is_order(thing, many):
-    """Tell whether the thing is a list of so many hands' numbers, each once."""
-    return is_list(thing, many, many) and all([is_whole(hand) for hand in thing]) and sorted(thing) == list(range(many))
 
 
 def _next_hand(lines, order, ats, done):
