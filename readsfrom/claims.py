@@ -59,23 +59,26 @@ def _count_of_holding(program):
 
 def _least_failing(program):
     """Tell, where there is one, a walk at the first plain run of the fewest steps behind which a claim fails."""
-    many = 0
     search = FailingSearch(program)
-    while not search.finds(many):
+    many = 0
+    while not search.has_found(many):
         many += 1
-        search = FailingSearch(program)
     return search
 
 
 class FailingSearch(Walk):
-    """A walk that looks for a plain run, of an ended graph or not, behind which a claim fails."""
+    """A walk that looks for plain runs, of ended graphs or not, behind which a claim fails."""
 
     def __init__(self, program):
         super().__init__(program)
         self._seen = 0
 
-    def finds(self, many):
-        """Go on to the first such run of so many steps; tell whether there is one."""
+    def has_found(self, many):
+        """Go to the first such run of so many steps; tell whether there is one."""
+        self._seen = 0
+        return self._has_found_behind(many)
+
+    def _has_found_behind(self, many):
         # Each plain run is of a graph of its own.
         self._seen += 1
         if self._seen > MOST_GRAPHS:
@@ -84,7 +87,7 @@ class FailingSearch(Walk):
             return self.has_failed()
         for hand, where in self.plain_steps():
             self._do(hand, where)
-            if self.finds(many):
+            if self._has_found_behind(many):
                 return True
             self.back()
         return False

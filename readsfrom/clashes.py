@@ -2,10 +2,11 @@
 
 from readsfrom.errors import TooMany
 from readsfrom.goer import MOST_GRAPHS
-from readsfrom.knowing import nothing_known, number_of_next, passed, rival_of, taken
+from readsfrom.knowing import does_clash, nothing_known, passed, taken
 from readsfrom.notes import box_of, calls_in, does_write, note_at
 from readsfrom.order import before
 from readsfrom.programs import look_at
+from readsfrom.runs import graph_of
 from readsfrom.turning import first_stand, key_of, turn_of
 
 
@@ -16,6 +17,7 @@ def clashing(program, graph):
     calls = calls_in(lines)
     pairs = [(one, other) for number, one in enumerate(calls) for other in calls[number + 1:]]
     pairs = [(one, other) for one, other in pairs if _can_clash(lines, one, other)]
+    # Of notes of one hand always one is before the other.
     return [(one, other) for one, other in pairs if (one, other) not in led and (other, one) not in led]
 
 
@@ -23,7 +25,11 @@ def clash_of(program):
     """Tell a run that takes turns, and two notes of its graph that clash; None where no such run has two."""
     look_at(program)
     boxes, hands = program
-    return ClashSearch(program).clash(first_stand(program), nothing_known(boxes, hands))
+    run = ClashSearch(program).found(first_stand(program), nothing_known(boxes, hands))
+    if run is None:
+        return None
+    one, other = clashing(program, graph_of(program, run))[0]
+    return (run, one, other)
 
 
 class ClashSearch:
@@ -35,8 +41,8 @@ class ClashSearch:
         self._turns = []
         self._seen = {}
 
-    def clash(self, stand, known):
-        """Tell (run, one, other) of a clash behind the turns so far, None where there is none."""
+    def found(self, stand, known):
+        """Tell a run, these turns ahead, in the graph of which the last note clashes; None where there is none."""
         key = (key_of(self._program, stand), known)
         if key in self._seen:
             return None
@@ -46,27 +52,25 @@ class ClashSearch:
             raise TooMany(MOST_GRAPHS)
         _, hands = self._program
         for hand, _ in enumerate(hands):
-            told = self._clash_by(stand, known, hand)
-            if told is not None:
-                return told
+            run = self._found_by(stand, known, hand)
+            if run is not None:
+                return run
         return None
 
-    def _clash_by(self, stand, known, hand):
-        """Tell a clash of the hand's turn or of one behind it."""
+    def _found_by(self, stand, known, hand):
+        """Tell such a run that goes on by a turn of the hand."""
         turn = turn_of(self._program, stand, hand)
         if turn is None:
             return None
         note, stand = turn
         boxes, _ = self._program
         known = taken(boxes, known, hand, note)
-        rival = rival_of(boxes, known, hand, note)
         self._turns.append((hand, note))
-        if rival is not None:
-            pair = sorted([rival, (hand, number_of_next(known, hand))])
-            return (_run_of_turns(boxes, self._turns), pair[0], pair[1])
-        told = self.clash(stand, passed(boxes, known, hand, note))
+        if does_clash(boxes, known, hand, note):
+            return _run_of_turns(boxes, self._turns)
+        run = self.found(stand, passed(boxes, known, hand, note))
         self._turns.pop()
-        return told
+        return run
 
 
 def _run_of_turns(boxes, turns):
@@ -83,8 +87,6 @@ def _run_of_turns(boxes, turns):
 
 
 def _can_clash(lines, one, other):
-    """Tell whether the notes are of unlike hands and of one box, and one of them writes."""
+    """Tell whether the notes are of one box, and one of them writes."""
     first, second = note_at(lines, one), note_at(lines, other)
-    if one[0] == other[0] or box_of(first) is None or box_of(first) != box_of(second):
-        return False
-    return does_write(first) or does_write(second)
+    return box_of(first) == box_of(second) and (does_write(first) or does_write(second))

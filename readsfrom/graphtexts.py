@@ -91,5 +91,5 @@ def _read_part(hands, kind, word):
     if kind == "source":
         call = read_call(word, hands)
         return call if call is not None or word == "start" else word
-    figure = read_figure(word, len(FIGURES)) if kind == "number" else None
+    figure = read_figure(word, len(FIGURES))
     return word if figure is None else figure

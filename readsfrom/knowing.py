@@ -1,9 +1,11 @@
 """What hands that take turns know of each other: how many of each other's first notes are before their next one.
 
-It is a tuple (views, messages, marks), never changed. Views are, of each hand, three lists of how many notes of each
-hand are known: told, what is before its next note; kept, what is so behind a fence that takes; given, what was so at
-its last fence that gives. Messages are, of each box, such a list: what its last message lets know those that take it.
-Marks are, of each box and each hand, the numbers of its last note there and of its last one there that writes, or -1.
+It is told as long as no notes clashed. Then each note that reads is behind its source, or it clashes; so what fences
+meet, or what is met by changes of changes, is known already by what is taken straight of a note that gives.
+
+It is a tuple (views, messages, marks), never changed. Views are, of each hand, how many notes of each hand it knows.
+Messages are, of each box, how many are known by taking its last message. Marks are, of each box and each hand, the
+numbers of its last note there and of its last one there that writes, or -1.
 """
 
 from readsfrom.notes import GIVING, TAKING, box_of, does_read, does_write, mode_of
@@ -12,66 +14,47 @@ from readsfrom.views import moved
 
 def nothing_known(boxes, hands):
     """Tell what is known ahead of all turns."""
-    none = tuple([0 for _ in hands])
-    views = tuple([(none, none, none) for _ in hands])
     marks = tuple([tuple([(-1, -1) for _ in hands]) for _ in boxes])
-    return (views, tuple([none for _ in boxes]), marks)
+    return (tuple([_nothing(hands) for _ in hands]), tuple([_nothing(hands) for _ in boxes]), marks)
 
 
 def taken(boxes, known, hand, note):
-    """Tell what is known once the hand's next note read what it reads."""
-    if not does_read(note):
-        return known
+    """Tell what is known once the hand's next note took what it reads."""
     views, messages, marks = known
-    told, kept, given = views[hand]
+    if not does_read(note) or mode_of(note) not in TAKING:
+        return known
     message = messages[boxes.index(box_of(note))]
-    if mode_of(note) in TAKING:
-        told = _more(told, message)
-    else:
-        kept = _more(kept, message)
-    return (moved(views, hand, (told, kept, given)), messages, marks)
+    view = tuple([max(one, two) for one, two in zip(views[hand], message)])
+    return (moved(views, hand, view), messages, marks)
 
 
-def rival_of(boxes, known, hand, note):
-    """Tell, by (hand, number), a note that clashes with the hand's next one, as taken; None where none does."""
+def does_clash(boxes, known, hand, note):
+    """Tell whether the hand's next note, as taken, clashes with one ahead of it."""
     if note[0] == "fence":
-        return None
+        return False
     views, _, marks = known
-    told, _, _ = views[hand]
-    for other, (last, last_written) in enumerate(marks[boxes.index(box_of(note))]):
-        number = last if does_write(note) else last_written
-        # Where the last one is before the note, so are all ahead of it.
-        if other != hand and number >= told[other]:
-            return (other, number)
-    return None
+    for many, (last, last_written) in zip(views[hand], marks[boxes.index(box_of(note))]):
+        # Where a hand's last note there is known so are all ahead of it; and each hand knows its own.
+        if (last if does_write(note) else last_written) >= many:
+            return True
+    return False
 
 
 def passed(boxes, known, hand, note):
     """Tell what is known behind the hand's next note, as taken."""
     views, messages, marks = known
-    told, kept, given = views[hand]
-    number = told[hand]
-    told = moved(told, hand, number + 1)
+    number = views[hand][hand]
+    view = moved(views[hand], hand, number + 1)
+    views = moved(views, hand, view)
     if note[0] == "fence":
-        told = _more(told, kept) if mode_of(note) in TAKING else told
-        given = told if mode_of(note) in GIVING else given
-        return (moved(views, hand, (told, kept, given)), messages, marks)
+        return (views, messages, marks)
     box = boxes.index(box_of(note))
     _, last_written = marks[box][hand]
     marks = moved(marks, box, moved(marks[box], hand, (number, number if does_write(note) else last_written)))
     if does_write(note):
-        message = told if mode_of(note) in GIVING else given
-        # A change lets know what its source does, too.
-        messages = moved(messages, box, _more(message, messages[box]) if does_read(note) else message)
-    return (moved(views, hand, (told, kept, given)), messages, marks)
+        messages = moved(messages, box, view if mode_of(note) in GIVING else _nothing(view))
+    return (views, messages, marks)
 
 
-def number_of_next(known, hand):
-    """Tell how many notes the hand has."""
-    views, _, _ = known
-    told, _, _ = views[hand]
-    return told[hand]
-
-
-def _more(known, other):
-    return tuple([max(one, two) for one, two in zip(known, other)])
+def _nothing(hands):
+    return tuple([0 for _ in hands])

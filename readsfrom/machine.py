@@ -138,18 +138,15 @@ class Machine:
             return False
         return where in self._places(hand)
 
-    def _next_deed(self, hand):
-        return next_deed(self._hands[hand], self._ways[hand])
-
     def _can_go(self, hand):
         """Tell whether some step of the hand can be done."""
-        deed = self._next_deed(hand)
+        deed = next_deed(self._ways[hand])
         # What does not wait can be done at the last place of its row at least.
         return deed is not None and (not is_waiting(deed) or len(self._places(hand)) > 0)
 
     def _places(self, hand):
         """Tell, rising, the places at which the hand's next deed can be done; None of a fence."""
-        deed = self._next_deed(hand)
+        deed = next_deed(self._ways[hand])
         if deed is None:
             return []
         if deed[0] == "fence":
@@ -187,8 +184,8 @@ class Machine:
 
     def _next_note(self, hand, where):
         """Tell the note that the hand's next deed makes at this place."""
-        deed = self._next_deed(hand)
-        _, registers = self._ways[hand]
+        deed = next_deed(self._ways[hand])
+        _, registers, _ = self._ways[hand]
         if not is_reading(deed):
             return note_of(deed, registers, None, None)
         source = self._row(box_in(deed))[where]

@@ -49,7 +49,7 @@ def _is_done(deeds, line):
     """Tell whether the line is what a hand of these deeds does."""
     way = begun(deeds)
     for note in line:
-        deed = next_deed(deeds, way)
+        deed = next_deed(way)
         if deed is None or not _makes(deed, way, note):
             return False
         way = gone_on(deeds, way, number_read(note))
@@ -61,7 +61,7 @@ def _makes(deed, way, note):
     number = number_read(note)
     if is_reading(deed) != does_read(note) or not can_read(deed, number):
         return False
-    _, registers = way
+    _, registers, _ = way
     return note == note_of(deed, registers, number, source_of(note))
 
 

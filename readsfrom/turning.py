@@ -19,13 +19,13 @@ def turn_of(program, stand, hand):
     """Tell the note of the hand's turn, its source left out, and the stand behind; None where it can't go on."""
     boxes, hands = program
     ways, numbers = stand
-    deed = next_deed(hands[hand], ways[hand])
+    deed = next_deed(ways[hand])
     if deed is None:
         return None
     number = numbers[boxes.index(box_in(deed))] if is_reading(deed) else None
     if not can_read(deed, number):
         return None
-    _, registers = ways[hand]
+    _, registers, _ = ways[hand]
     note = note_of(deed, registers, number, None)
     if number_written(note) is not None:
         numbers = moved(numbers, boxes.index(box_of(note)), number_written(note))

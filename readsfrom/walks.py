@@ -7,7 +7,7 @@ hand does behind a step of a greater one reads what was written by that step or 
 from readsfrom.comings import may_come, of_box, wished
 from readsfrom.errors import TooMany
 from readsfrom.machine import Machine
-from readsfrom.ways import box_in, is_reading
+from readsfrom.ways import box_in, is_reading, next_deed
 
 
 class Walk(Machine):
@@ -29,9 +29,11 @@ class Walk(Machine):
         if self._is_begun and not self._turned_off():
             return False
         self._is_begun = True
+        self._go_in()
         while not self.is_over():
-            if not self._went_in() and not self._turned_off():
+            if not self._turned_off():
                 return False
+            self._go_in()
         self._many += 1
         return True
 
@@ -69,13 +71,12 @@ class Walk(Machine):
         self._passings.append((time,) * hand + (-1,) + self._passings[-1][hand + 1:])
         super()._do(hand, where)
 
-    def _went_in(self):
-        """Do the first step that may lead to an ended graph; tell whether there is one."""
-        step = self._first_step() if self._has_hope() else None
-        if step is None:
-            return False
-        self._do(step[0], step[1])
-        return True
+    def _go_in(self):
+        """Do always the first step that may lead to an ended graph, as long as there is one."""
+        step = self._first_step(0) if self._has_hope() else None
+        while step is not None:
+            self._do(step[0], step[1])
+            step = self._first_step(0) if self._has_hope() else None
 
     def _turned_off(self):
         """Take steps back until another one can stand in the last one's stead, and do it; tell whether there is one."""
@@ -91,7 +92,7 @@ class Walk(Machine):
     def _plain_places(self, hand):
         """Tell the places at which a step of the hand leaves the run plain."""
         time = self._passings[-1][hand]
-        deed = self._next_deed(hand)
+        deed = next_deed(self._ways[hand])
         if time == -1 or deed is None:
             return self._places(hand)
         if not is_reading(deed):
@@ -99,7 +100,7 @@ class Walk(Machine):
         row = self._row(box_in(deed))
         return [place for place in self._places(hand) if self._times[row[place]] >= time]
 
-    def _first_step(self, least=0):
+    def _first_step(self, least):
         """Tell the first step, of this hand or a greater one, that may lead to an ended graph; None where none does."""
         for hand in range(least, len(self._hands)):
             places = self._plain_places(hand)
@@ -120,14 +121,14 @@ class Walk(Machine):
 
     def _can_be_passed(self, hand):
         """Tell whether a greater hand can go ahead: not of what reads nothing, which can be done at any time."""
-        deed = self._next_deed(hand)
+        deed = next_deed(self._ways[hand])
         return deed is None or is_reading(deed)
 
     def _has_hope(self):
         """Tell whether each hand that was passed may still find what is written later."""
         if max(self._passings[-1]) == -1:
             return True
-        going = [hand for hand, _ in enumerate(self._hands) if self._next_deed(hand) is not None]
+        going = [hand for hand, _ in enumerate(self._hands) if next_deed(self._ways[hand]) is not None]
         waiting = [hand for hand in going if not self._can_go_plainly(hand)]
         coming = self._coming([hand for hand in going if hand not in waiting])
         freed = self._freed(waiting, coming)
@@ -146,17 +147,17 @@ class Walk(Machine):
         """Tell what these hands may write from here on."""
         coming = 0
         for hand in hands:
-            at, _ = self._ways[hand]
+            at, _, _ = self._ways[hand]
             coming = coming | self._comings[hand][at]
         return coming
 
     def _freed(self, waiting, coming):
-        return [hand for hand in waiting if wished(self._boxes, self._next_deed(hand)) & coming != 0]
+        return [hand for hand in waiting if wished(self._boxes, next_deed(self._ways[hand])) & coming != 0]
 
     def _is_lost(self, hand, coming):
         """Tell whether the hand, for which nothing comes, can't be left stuck, as it finds what was there ahead."""
         if len(self._places(hand)) == 0:
             return False
-        deed = self._next_deed(hand)
+        deed = next_deed(self._ways[hand])
         # What comes to the box of a grab may stand right behind all that it could read, and so bar it.
         return deed[0] != "grab" or of_box(self._boxes, box_in(deed)) & coming == 0

@@ -1,7 +1,8 @@
 """The ways of hands through their deeds.
 
-A way is a tuple (at, registers): the number of the deed at which the hand stands, and its registers, a dict. It is
-never changed. No way stands at a skip, and only a hand that failed stands at a claim.
+A way is a tuple (at, registers, deed): the number of the deed at which the hand stands; its registers, a dict; and this
+deed where it makes the hand's next note, None where the hand makes no more: it is through, or failed at a claim. A way
+is never changed, and none stands at a skip, or at a claim that holds.
 """
 
 READING = ("read", "change", "swap", "wait", "grab")
@@ -9,33 +10,29 @@ READING = ("read", "change", "swap", "wait", "grab")
 
 def begun(deeds):
     """Tell the way of a hand that did no deed yet."""
-    registers = {name: 0 for deed in deeds for name in _names_in(deed)}
-    return (_settled(deeds, 0, registers), registers)
+    return _way(deeds, 0, {name: 0 for deed in deeds for name in _names_in(deed)})
 
 
 def gone_on(deeds, way, number):
     """Tell the way behind the next deed; the number is what this reads, None where it reads nothing."""
-    at, registers = way
+    at, registers, deed = way
     if number is not None:
-        registers = {**registers, deeds[at][1]: number}
-    return (_settled(deeds, at + 1, registers), registers)
+        registers = {**registers, deed[1]: number}
+    return _way(deeds, at + 1, registers)
 
 
-def next_deed(deeds, way):
+def next_deed(way):
     """Tell the deed that makes the hand's next note, None where it makes no more."""
-    at, _ = way
-    if at == len(deeds) or deeds[at][0] == "claim":
-        return None
-    return deeds[at]
+    return way[2]
 
 
 def state_on(deeds, way):
     """Tell the hand's state: its word, the number of the deed at which it stands, its registers."""
-    at, registers = way
+    at, registers, deed = way
     told = [(name, registers[name]) for name in sorted(registers)]
     if at == len(deeds):
         return ("through", at, told)
-    return ("failed" if deeds[at][0] == "claim" else "going", at, told)
+    return ("failed" if deed is None else "going", at, told)
 
 
 def is_reading(deed):
@@ -83,6 +80,11 @@ def _names_in(deed):
     if deed[0] in ("write", "change", "swap", "grab") and isinstance(deed[-2], str):
         own.append(deed[-2])
     return own
+
+
+def _way(deeds, at, registers):
+    at = _settled(deeds, at, registers)
+    return (at, registers, deeds[at] if at < len(deeds) and deeds[at][0] != "claim" else None)
 
 
 def _settled(deeds, at, registers):

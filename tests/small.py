@@ -52,6 +52,18 @@ PLAIN = [
     "boxes x y\nhand\nwait r x 1 plain\nwrite y 1 plain\nhand\nwait r y 1 plain\nwrite x 1 plain",
     WAITING_IN_VAIN,
     WAITING_TOO_LATE,
+    # The first hand reads what the second one writes, which waits for what the third one comes to write.
+    "boxes x y z\nhand\nread r x plain\nhand\nwait s y 1 plain\nwrite x 1 plain\n"
+    "hand\nwrite z 1 plain\nwrite y 1 plain",
+    "boxes x y\nhand\nread r y plain\nhand\nwait s x 3 plain\nwrite y 1 plain\n"
+    "hand\nwrite x 1 plain\nchange q x add 2 loose",
+    "boxes w x y\nhand\nread r y plain\nhand\nwait s w 1 plain\nwrite y 1 plain\n"
+    "hand\nwrite x 1 plain\nread t x plain\nwrite w t plain",
+    "boxes x y z\nhand\nread r x plain\nhand\ngrab s y 1 2 loose\nhand\nwait t y 2 plain\nwrite x 1 plain\n"
+    "hand\nwrite z 1 plain\nchange t y put 1 loose",
+    # A hand may be passed until what it waits for comes again, or is taken away.
+    "boxes x\nhand\nwait r x 0 plain\nhand\nwrite x 1 plain\nwrite x 0 plain",
+    "boxes x\nhand\ngrab r x 0 1 loose\nhand\nchange q x put 0 loose\nchange q x put 5 loose",
 ]
 
 FORMS = [CROSSWISE, SENT, SENT_AND_WAITED_FOR, SENT_ON, TWO_LOOKS, ADDING, READ_AND_WRITTEN]

@@ -178,6 +178,13 @@ class ManyTest(unittest.TestCase):
             ledger_of(big)
         self.assertEqual(caught.exception.many, 100000)
 
+    def test_more_graphs_than_are_looked_through_for_the_least(self):
+        big = (["x"], [[*ADDS[:3], ("claim", "r", "isnt", 9)]] * 4)
+        for call in (failing, ledger_of):
+            with self.assertRaises(TooMany) as caught:
+                call(big)
+            self.assertEqual(caught.exception.many, 100000)
+
     def test_a_few_are_told_of_a_big_program_too(self):
         big = (["x"], [ADDS, ADDS, ADDS, ADDS])
         self.assertIs(is_ledger(big, ("holds", 3)), False)

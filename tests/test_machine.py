@@ -123,6 +123,7 @@ class MachineTest(MachineCase):
                 while True:
                     told.append(self.all_of(machine))
                     self.assertEqual(machine.steps(), slow.steps())
+                    self.assertIs(machine.is_over(), machine.steps() == [])
                     self.assertEqual(machine.graph(), Graph(slow.lines, slow.graph_rows()))
                     self.assertEqual([machine.view(hand) for hand in range(len(slow.hands))], slow.told)
                     self.assertEqual([machine.state(hand)[1] for hand in range(len(slow.hands))], slow.at)

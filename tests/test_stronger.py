@@ -175,6 +175,12 @@ class PaperTest(unittest.TestCase):
             self.assertEqual(caught.exception.many, 6)
             for many in (1, 2, 36):
                 self.assertIs(is_paper(program, ([], many, [])), False)
+        # Nothing is a paper of it, though this would be one.
+        program = read("boxes x\nhand\n" + "\n".join(["write x 1 plain"] * 7))
+        self.assertEqual(ledger_of(program), ("holds", 1))
+        self.assertIs(is_paper(program, ([], 1, [])), False)
+        program = read("boxes x\nhand\n" + "\n".join(["write x 1 plain"] * 6))
+        self.assertIs(is_paper(program, ([], 1, [])), True)
 
     def test_bent_papers(self):
         program = read(SENT.format("plain", "plain"))
