@@ -32,6 +32,10 @@ WAITING_IN_VAIN = "boxes x\nhand\nwait r x 1 plain\nhand\nread r x plain\nwrite 
 # Where the hands take turns the wait may be too late.
 WAITING_TOO_LATE = "boxes x\nhand\nwrite x 1 giving\nwrite x 2 giving\nhand\nwait r x 1 taking"
 
+# More graphs than are gone through; and more even where hands take turns.
+WRITING = "boxes x\n" + "\n".join(["hand\n" + "\n".join(["write x 1 plain"] * 4)] * 4)
+ALL_ADDING = WRITING.replace("write x 1 plain", "change r x add 1 both")
+
 PLAIN = [
     "boxes x\nhand",
     "boxes a b c d\nhand\nhand\nhand\nhand",

@@ -12,8 +12,8 @@ from readsfrom.runs import graph_of, is_run
 from readsfrom.turns import outcomes, turn_outcomes
 from tests import grown, oracle
 from tests.small import (
-    ADDING, CROSSWISE, CROSSWISE_APART, KEPT_OUT, SENT, SENT_AND_WAITED_FOR, SENT_BY_FENCES, SENT_ON, TWO_LOOKS,
-    WAITING_TOO_LATE, small_programs,
+    ADDING, ALL_ADDING, CROSSWISE, CROSSWISE_APART, KEPT_OUT, SENT, SENT_AND_WAITED_FOR, SENT_BY_FENCES, SENT_ON,
+    TWO_LOOKS, WAITING_TOO_LATE, WRITING, small_programs,
 )
 from tests.test_rules import SMALL
 from tests.things import refuses_programs
@@ -173,10 +173,10 @@ class ClashOfTest(unittest.TestCase):
                 ("write", "l", 0, "giving")]
         self.assertIsNone(clash_of((["l", "x"], [lock] * 4)))
         self.assertIs(self.has_clash((["l", "x"], [lock] * 3 + [lock[1:]])), True)
-        big = (["x"], [[("change", "r", "x", "add", 1, "both")] * 4 for _ in range(4)])
         with self.assertRaises(TooMany) as caught:
-            clash_of(big)
+            clash_of(read(ALL_ADDING))
         self.assertEqual(caught.exception.many, 100000)
+        self.assertIs(self.has_clash(read(WRITING)), True)
 
 
 def takes_turns(program, run):

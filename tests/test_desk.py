@@ -11,10 +11,9 @@ from readsfrom.machine import Machine
 from readsfrom.programtexts import read, shown
 from readsfrom.stronger import by_picks
 from readsfrom.turns import outcomes, turn_outcomes
-from tests.small import CROSSWISE, KEPT_OUT, PLAIN, SENT, SENT_AND_WAITED_FOR, WAITING_TOO_LATE
+from tests.small import CROSSWISE, KEPT_OUT, PLAIN, SENT, SENT_AND_WAITED_FOR, WAITING_TOO_LATE, WRITING
 from tests.things import STRANGE, long_program
 
-BIG = "boxes x\n" + "\n".join(["hand"] + ["change r x add 1 both"] * 4)
 SEVEN = "boxes x\nhand\n" + "\n".join(["write x 1 plain"] * 7)
 
 REFUSALS = (NoRow, NoName, Bare, NoText, NoPicks, NoStep, NoRun, TooMany)
@@ -171,7 +170,7 @@ class ProgramRowsTest(DeskCase):
         self.assertEqual(len(self.desk), 8)
 
     def test_more_graphs_than_are_counted(self):
-        self.put("big", BIG + "\n" + "\n".join(BIG.split("\n")[1:] * 3))
+        self.put("big", WRITING)
         self.refuses("count big", TooMany, many=100000)
 
     def test_rows_that_are_none(self):

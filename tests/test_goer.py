@@ -10,7 +10,7 @@ from readsfrom.programtexts import read
 from readsfrom.rules import breach
 from readsfrom.runs import run_of
 from tests import grown
-from tests.small import CROSSWISE, PLAIN, SENT, small_programs
+from tests.small import CROSSWISE, PLAIN, SENT, WRITING, small_programs
 from tests.things import STRANGE, refuses_programs
 
 
@@ -170,9 +170,8 @@ class CountTest(unittest.TestCase):
         self.assertEqual(count_of(program), 1)
 
     def test_more_graphs_than_are_counted(self):
-        program = (["x"], [[("change", "r", "x", "add", 1, "both")] * 4 for _ in range(4)])
         with self.assertRaises(TooMany) as caught:
-            count_of(program)
+            count_of(read(WRITING))
         self.assertEqual(caught.exception.many, 100000)
 
     def test_no_programs(self):

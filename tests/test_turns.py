@@ -10,8 +10,8 @@ from readsfrom.programtexts import read
 from readsfrom.turns import outcomes, turn_outcomes
 from tests import grown
 from tests.small import (
-    ADDING, CROSSWISE, CROSSWISE_APART, KEPT_OUT, PLAIN, READ_AND_WRITTEN, SENT, SENT_BY_FENCES, TWO_LOOKS,
-    WAITING_IN_VAIN, WAITING_TOO_LATE, small_programs,
+    ADDING, ALL_ADDING, CROSSWISE, CROSSWISE_APART, KEPT_OUT, PLAIN, READ_AND_WRITTEN, SENT, SENT_BY_FENCES, TWO_LOOKS,
+    WAITING_IN_VAIN, WAITING_TOO_LATE, WRITING, small_programs,
 )
 from tests.things import refuses_programs
 
@@ -139,13 +139,13 @@ class KnownTest(unittest.TestCase):
 
 class ManyTest(unittest.TestCase):
     def test_more_graphs_than_are_gone_through(self):
-        big = (["x"], [[("change", "r", "x", "add", 1, "both")] * 4 for _ in range(4)])
-        for call in (outcomes, turn_outcomes):
+        for call, text in [(outcomes, WRITING), (turn_outcomes, ALL_ADDING)]:
             with self.assertRaises(TooMany) as caught:
-                call(big)
+                call(read(text))
             self.assertEqual(caught.exception.many, 100000)
 
     def test_many_runs_that_end_alike(self):
+        self.assertEqual(turn_outcomes(read(WRITING)), [(["through"] * 4, [[]] * 4, [1])])
         program = (["w", "x", "y", "z"], [[("write", box, 1, "plain")] * 4 for box in "wxyz"])
         self.assertEqual(outcomes(program), [(["through"] * 4, [[]] * 4, [1] * 4)])
         self.assertEqual(turn_outcomes(program), outcomes(program))
