@@ -183,6 +183,13 @@ class ManyTest(unittest.TestCase):
             failing(big)
         self.assertEqual(caught.exception.many, 100000)
 
+    def test_fewer_graphs_are_all_looked_through(self):
+        # There are 89375 graphs, and none but greatest ones fail: all shorter ones are looked through in vain.
+        adds = [ADDS[0]] * 5
+        program = (["x"], [[*adds, ("claim", "r", "isnt", 1)], adds[:4], adds[:3]])
+        run = ledger_of(program)[1]
+        self.assertEqual((len(run), run[-1]), (12, (0, 11)))
+
     def test_a_few_are_told_of_a_big_program_too(self):
         big = (["x"], [ADDS, ADDS, ADDS, ADDS])
         self.assertIs(is_ledger(big, ("holds", 3)), False)
